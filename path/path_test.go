@@ -278,7 +278,21 @@ func TestExpandNoName(t *testing.T) {
 	}
 }
 
-// P7.1: what comes has 256 bytes at most, whatever the name's and the alias's lengths are.
+// P7.1: a text with / ahead stands for itself, whatever its length and whatever the aliases are.
+func TestExpandItself(t *testing.T) {
+	for _, n := range []int{0, 1, 254, 255, 256, 257, 5000} {
+		for _, rest := range []string{"", ":", "/y:z"} {
+			s := "/" + strings.Repeat("x", n) + rest
+			for _, l := range [][]api.Alias{nil, some(), {{Name: "", Path: "/no"}}, {{Name: s, Path: "/no"}}} {
+				if got, e := path.Expand(s, l); got != s || e != api.OK {
+					t.Errorf("%d bytes: %.9q, %v", len(s), got, e)
+				}
+			}
+		}
+	}
+}
+
+// P7.1: what comes of an alias has 256 bytes at most, whatever the name's and the alias's lengths are.
 func TestExpandLength(t *testing.T) {
 	x := func(n int) string { return strings.Repeat("x", n) }
 	l := []api.Alias{{Name: "d", Path: "/a:" + x(253)}, {Name: "e", Path: "/a:" + x(254)}, {Name: x(300), Path: "/b"}}
@@ -287,9 +301,6 @@ func TestExpandLength(t *testing.T) {
 		want string
 		e    api.Errno
 	}{
-		{"/" + x(255), "/" + x(255), api.OK},
-		{"/" + x(256), "", api.ErrLong},
-		{"/" + x(5000), "", api.ErrLong},
 		{"d", "/a:" + x(253), api.OK},
 		{"d/", "", api.ErrLong},
 		{"d:" + x(253), "/a:" + x(253), api.OK},
